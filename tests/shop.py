@@ -1,0 +1,33 @@
+"""Jobs for the tests."""
+
+from shopwhole.solids import box, less
+
+STOCK = box((0, 0, 0), (4, 3, 2))
+WISHED = less(STOCK, box((1, 1, 1), (3, 2, 2)))
+MACHINE = ((-2, -2, 0), (6, 6, 6), (0, 0, 4), 1, 5, 20)
+MILL = ("mill", box((0, 0, 0), (1, 1, 1)), box((0, 0, 1), (1, 1, 3)), 2)
+FLAT = ("flat", 0, (0, 0, 0), ())
+JOB = (STOCK, WISHED, 0, MACHINE, (MILL,), (FLAT,))
+
+POCKET = """stock { box 0,0,0 to 40,30,20 }
+part {
+  box 0,0,0 to 40,30,20
+  cut box 10,10,12 to 30,20,20
+}
+machine from -20,-20,0 to 80,80,60 home 0,0,40 rapid 1 change 50 clamp 200
+tool mill rate 4 cutter { box 0,0,0 to 5,5,10 } holder { box -5,-5,10 to 10,10,30 }
+setup flat turn 0 at 0,0,0
+"""
+
+
+def changed(thing, place, other):
+    """The tuple with another thing at a place."""
+    return (*thing[:place], other, *thing[place + 1:])
+
+
+def job_with_tool(tool):
+    return changed(JOB, 4, (tool,))
+
+
+def job_with_setup(setup):
+    return changed(JOB, 5, (setup,))

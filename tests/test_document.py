@@ -1,0 +1,72 @@
+"""Promises 2 and 43: the interface is there as it is listed, and the document's examples hold as they are printed."""
+
+import doctest
+import importlib
+import inspect
+import os
+import unittest
+
+import shopwhole.errors
+
+INTERFACE = {
+    "solids": """is_solid(thing) box(corner,other) union(a,b) meet(a,b) less(a,b) union_of(solids) is_within(a,b)
+        do_meet(a,b) boxes_of(solid) volume(solid) area(solid) bounds(solid) has(solid,point) moved(solid,by)
+        mirrored(solid,axis) spread(solid,by) pieces(solid) piece_with(solid,point) swept(lot,tool)
+        barred(tool,solid) neighbours(lot)""",
+    "turns": "turned(solid,turn) turned_point(point,turn) after(one,other) back(turn)",
+    "jobtexts": "read_solid(text) solid_text(solid) read_job(text) job_text(job)",
+    "ways": """is_way(lot,way) length_of(way) way_in(lot,start,end) heights_for(lot,start,end)
+        is_least_way(lot,way,heights) is_parted(lot,start,end,side)""",
+    "orders": """are_costs(thing) cost_of(costs,order) least_order(costs) heights_of(costs)
+        is_least_order(costs,order,heights) costs_between(ends,home,distance)""",
+    "duedates": """are_jobs(thing,machines) lateness_of(jobs,machines,plan) least_lateness(jobs,machines)
+        is_least(jobs,machines,plan,table)""",
+    "inspection": """taken_by(stocks) taker_of(stocks,point) faces_of(solid,side) faces_made(solid,taken,side)
+        slice_text(solid,height) probe(solid,point,side) excess(solid,wished) lacking(solid,wished)""",
+    "jobs": "placed(setup,solid) taken_back(setup,solid) check_job(job) is_job(thing) is_fine(job,solid)",
+    "lots": "cube_at(standing) line_lot(start,axis,to) travel_lot(machine)",
+    "closure": """free_lot(job,setup,tool,rest) closure(job) is_paper(job,paper) can_be_made(job)
+        shows_never(job,paper)""",
+}
+ERRORS = {"BadThing": ("thing",), "BadText": ("line", "column"), "BadJob": ("name", "why"), "BadPaper": ("why",),
+          "Alarm": ("why",)}
+
+
+class Interface(unittest.TestCase):
+    def test_names_and_arguments_are_as_listed(self):
+        for module, names in INTERFACE.items():
+            found = importlib.import_module(f"shopwhole.{module}")
+            for told in names.split():
+                name, arguments = told[:-1].split("(")
+                function = getattr(found, name)
+                self.assertTrue(inspect.isfunction(function), name)
+                self.assertEqual(function.__module__, f"shopwhole.{module}", name)
+                self.assertEqual(",".join(inspect.signature(function).parameters), arguments, name)
+
+    def test_errors(self):
+        self.assertEqual(shopwhole.errors.ShopError.__bases__, (Exception,))
+        for name, attributes in ERRORS.items():
+            error = getattr(shopwhole.errors, name)
+            self.assertEqual(error.__bases__, (shopwhole.errors.ShopError,))
+            self.assertEqual(error.__module__, "shopwhole.errors")
+            self.assertEqual(tuple(inspect.signature(error).parameters), attributes)
+            made = error(*range(7, 7 + len(attributes)))
+            self.assertEqual([getattr(made, word) for word in attributes], list(range(7, 7 + len(attributes))))
+            self.assertIsInstance(str(made), str)
+            with self.assertRaises(shopwhole.errors.ShopError):
+                raise made
+        self.assertEqual(shopwhole.errors.BadThing((1, 2)).thing, (1, 2))
+
+
+class Examples(unittest.TestCase):
+    def test_examples_hold_as_they_are_printed(self):
+        path = os.path.join(os.path.dirname(os.path.abspath(__file__)), "examples.txt")
+        with open(path, encoding="utf-8") as file:
+            told = doctest.DocTestParser().get_doctest(file.read(), {}, "examples", path, 0)
+        self.assertGreater(len(told.examples), 30)
+        results = doctest.DocTestRunner(verbose=False).run(told)
+        self.assertEqual(results.failed, 0)
+
+
+if __name__ == "__main__":
+    unittest.main()
