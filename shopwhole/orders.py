@@ -87,9 +87,9 @@ def best_orders(costs):
     latest = {((), -1): (0, ())}
     bests = {}
     while latest:
-        bests.update(latest)
         found = {}
         for state, (cost, order) in latest.items():
+            bests[state] = (cost, order)
             for begun, there, step in following(costs, state):
                 told = (cost + step, (*order, begun))
                 if there not in found or told < found[there]:

@@ -6,6 +6,11 @@ from shopwhole.textshapes import MOST_TURN, read_group
 from shopwhole.textsums import read_count, read_length, read_point
 
 
+def read_stuff(reader):
+    """The solid of the stock, or the part, that comes next."""
+    return read_group(reader)
+
+
 def read_ticks(reader, word):
     """The ticks behind a word."""
     reader.take(word)
@@ -61,7 +66,7 @@ def read_setup(reader):
     return (name, turn, by, read_perhaps(reader, "fixture"))
 
 
-ONCE = {"stock": read_group, "part": read_group, "allowance": read_allowance, "machine": read_machine}
+ONCE = {"stock": read_stuff, "part": read_stuff, "allowance": read_allowance, "machine": read_machine}
 OFTEN = {"tool": read_tool, "setup": read_setup}
 
 
