@@ -71,10 +71,8 @@ def machines_for(job):
 
 
 def is_no_more(one, other):
-    """Whether a state is nowhere more than another one, whose lateness is told."""
-    if one[1] is not None and one[1] > other[1]:
-        return False
-    return all([load <= more for load, more in zip(one[0], other[0])])
+    """Whether a state, with a lateness, is nowhere more than another one."""
+    return one[1] <= other[1] and all([load <= more for load, more in zip(one[0], other[0])])
 
 
 def least_states(found):

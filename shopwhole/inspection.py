@@ -69,7 +69,7 @@ def probe(solid, point, side):
 def reach_of(solid, corner, other):
     """By how much the box between two corners must be spread till a solid is within."""
     low, high = bounds(solid)
-    return max([0, *[max(corner[axis] - low[axis], high[axis] - other[axis]) for axis in range(3)]])
+    return max(0, max([max(corner[axis] - low[axis], high[axis] - other[axis]) for axis in range(3)]))
 
 
 def excess(solid, wished):

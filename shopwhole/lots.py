@@ -1,6 +1,6 @@
 """Lots of standings: solids of the unit cubes from them on."""
 
-from shopwhole.plain import added, with_number
+from shopwhole.plain import added, sorted_corners, with_number
 from shopwhole.solids import box
 
 
@@ -11,8 +11,7 @@ def cube_at(standing):
 
 def line_lot(start, axis, to):
     """All standings from one to that with the number to along an axis, both in."""
-    low = with_number(start, axis, min(start[axis], to))
-    high = with_number(start, axis, max(start[axis], to))
+    low, high = sorted_corners(start, with_number(start, axis, to))
     return box(low, added(high, (1, 1, 1)))
 
 

@@ -31,6 +31,12 @@ def times(point, factor):
     return (point[0] * factor, point[1] * factor, point[2] * factor)
 
 
+def sorted_corners(one, other):
+    """The near and the far corner of the box between two corners, either way round."""
+    pairs = [(min(one[axis], other[axis]), max(one[axis], other[axis])) for axis in range(3)]
+    return tuple([low for low, _ in pairs]), tuple([high for _, high in pairs])
+
+
 def with_number(point, axis, number):
     """The point with another number along an axis."""
     return (*point[:axis], number, *point[axis + 1:])

@@ -57,7 +57,7 @@ class Planes:
         for axis in range(3):
             row = self.numbers[axis]
             place = self.places[axis][point[axis]]
-            for number in (*row[max(place - 1, 0):place], *row[place + 1:place + 2]):
+            for number in row[max(place - 1, 0):place] + row[place + 1:place + 2]:
                 there, step = with_number(point, axis, number), abs(number - point[axis])
                 # Between planes no box begins or ends: a step of more than a unit stays in its box, or leaves the lot.
                 if inside[axis][0] <= number < inside[axis][1] or (step == 1 and self.ranges(there) is not None):

@@ -1,7 +1,8 @@
 """Texts cut into pieces, and a reader that goes through them.
 
 A piece is (kind, what, line, column); its kind is "own" (an own word), "name" (another word), "number", "sign",
-"end" (of a line), "stop" (of the text) or "wrong". What a number tells is a fraction (above, below).
+"end" (of a line), "stop" (of the text) or "wrong". What it tells is a fraction (above, below) for a number, None
+where it tells nothing, else a string, which no piece of another kind tells.
 """
 
 from shopwhole.errors import BadText
@@ -114,7 +115,7 @@ class Reader:
 
     def sees(self, what):
         """Whether the next piece is an own word, a sign, or with a line feed the end of a line."""
-        return self.kind() != "name" and self.what() == what
+        return self.what() == what
 
     def step(self):
         """Goes behind the next piece."""

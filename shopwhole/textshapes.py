@@ -2,7 +2,7 @@
 
 from shopwhole.forms import count_of
 from shopwhole.jobchecks import MOST_BOXES, is_far
-from shopwhole.plain import times, with_number
+from shopwhole.plain import sorted_corners, times, with_number
 from shopwhole.solids import box, less, meet, mirrored, moved, union
 from shopwhole.textpieces import wrong_at
 from shopwhole.textsums import read_count, read_length, read_point, read_sum
@@ -25,13 +25,11 @@ def read_box(reader):
     reader.take("to")
     place = reader.place()
     two = read_point(reader)
-    low, high = one, two
-    for axis in range(3):
-        if one[axis] == two[axis]:
-            wrong_at(place)
-        low = with_number(low, axis, min(one[axis], two[axis]))
-        high = with_number(high, axis, max(one[axis], two[axis]))
-    return box(low, high)
+    low, high = sorted_corners(one, two)
+    solid = box(low, high)
+    if solid == ():
+        wrong_at(place)
+    return solid
 
 
 def read_moved(reader):
@@ -44,7 +42,7 @@ def read_moved(reader):
 def read_mirrored(reader):
     """The solid of `mirror A at L G`."""
     reader.take("mirror")
-    if reader.kind() != "own" or reader.what() not in AXIS_WORDS:
+    if reader.what() not in AXIS_WORDS:
         wrong_at(reader.place())
     axis = AXIS_WORDS.index(reader.what())
     reader.step()
@@ -80,7 +78,7 @@ def read_turned(reader):
 def read_named(reader):
     """The solid of the shape that was told by a name."""
     name = reader.what()
-    if reader.kind() != "name" or name not in reader.shapes:
+    if name not in reader.shapes:
         wrong_at(reader.place())
     reader.step()
     return reader.shapes[name]
@@ -92,7 +90,7 @@ SHAPES = {"box": read_box, "at": read_moved, "mirror": read_mirrored, "array": r
 def read_shape(reader):
     """The solid of the shape that comes next."""
     word = reader.what()
-    if reader.kind() == "own" and word in SHAPES:
+    if word in SHAPES:
         read = SHAPES[word]
         return read(reader)
     return read_named(reader)

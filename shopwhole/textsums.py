@@ -24,7 +24,7 @@ def read_bare_factor(reader):
         reader.take(")")
         return told
     told = reader.what()
-    if reader.kind() == "name" and told in reader.numbers:
+    if told in reader.numbers:
         told = reader.numbers[told]
     elif reader.kind() != "number":
         wrong_at(reader.place())

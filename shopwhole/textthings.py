@@ -73,7 +73,7 @@ OFTEN = {"tool": read_tool, "setup": read_setup}
 def read_thing(reader, told):
     """Keeps, by its first word, the thing that comes next."""
     word = reader.what()
-    if reader.kind() != "own" or (word not in OFTEN and (word not in ONCE or word in told)):
+    if word not in OFTEN and (word not in ONCE or word in told):
         wrong_at(reader.place())
     reader.step()
     if word in OFTEN:

@@ -1,6 +1,6 @@
 """The 24 turnings that lead boxes along the axes to such boxes."""
 
-from shopwhole.plain import with_number
+from shopwhole.plain import sorted_corners
 from shopwhole.solids import box, boxes_of, union_of
 
 AXES = ((0, 1, 2), (0, 2, 1), (1, 0, 2), (1, 2, 0), (2, 0, 1), (2, 1, 0))
@@ -29,11 +29,7 @@ def turned_point(point, turn):
 
 def turned_box(corner, other, turn):
     """The box to which a turning leads the box between two corners."""
-    one, two = turned_point(corner, turn), turned_point(other, turn)
-    low, high = one, two
-    for axis in range(3):
-        low = with_number(low, axis, min(one[axis], two[axis]))
-        high = with_number(high, axis, max(one[axis], two[axis]))
+    low, high = sorted_corners(turned_point(corner, turn), turned_point(other, turn))
     return box(low, high)
 
 

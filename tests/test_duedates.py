@@ -171,7 +171,8 @@ class Tables(unittest.TestCase):
                       (*self.TABLE[:3], [((11,), 3)]), (*self.TABLE[:3], ([(11,), 3],)), (*self.TABLE[:3], (((11,),),)),
                       (*self.TABLE[:3], ((11, 3),)), (*self.TABLE[:3], (((11, 0), 3),)), (*self.TABLE[:3], (((11,), "3"),)),
                       (*self.TABLE[:3], (((11,), None),)), (*self.TABLE[:3], (((True,), 3),)),
-                      (*self.TABLE[:3], (None,)), (*self.TABLE[:3], None)):
+                      (*self.TABLE[:3], (None,)), (*self.TABLE[:3], None), ((((0,), None), ((0,), "0")), *self.TABLE[1:]),
+                      ((((0,), None), ((-1,), None)), *self.TABLE[1:]), (*self.TABLE[:3], (((-1,), 3),))):
             self.assertIs(is_least(self.ONE, 1, self.PLAN, thing), False, thing)
 
     def test_things_that_are_no_plans(self):

@@ -145,8 +145,10 @@ class Language(unittest.TestCase):
                     self.assertEqual(node.decorator_list, [])
                 if isinstance(node, ast.ExceptHandler):
                     self.assertIsNotNone(node.type, name)
-                if isinstance(node, (ast.Is, ast.IsNot)):
-                    pass
+                if isinstance(node, ast.Call):
+                    for argument in node.args:
+                        if isinstance(argument, ast.Starred):
+                            self.assertIsInstance(argument.value, ast.Name, (name, node.lineno))
 
     def test_only_allowed_builtins_and_methods(self):
         attributes, methods = set(), set()

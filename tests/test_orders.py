@@ -171,7 +171,8 @@ class Heights(unittest.TestCase):
                       {**heights, ((0,), 2): 9}, {**heights, ((1, 0), 2): 9}, {**heights, ((0, 0), 0): 9},
                       {**heights, ((2,), 4): 9}, {**heights, ((0,), -1): 9}, {**heights, 5: 9}, {**heights, (0, 0): 9},
                       {**heights, ((0,), 0, 0): 9}, {**heights, ((0,), 0): "5"}, {**heights, ((0,), 0): None},
-                      {**heights, ((False,), 0): 5}):
+                      {**heights, ((False,), 0): 5}, {**heights, ((0,), "0"): 9}, {**heights, ((0,), None): 9},
+                      {**heights, (("0",), 0): 9}, {**heights, ((None,), 0): 9}, {**heights, ("0", 0): 9}):
             self.assertIs(is_least_order(LINE, (0, 2), thing), False, thing)
 
     def test_ways_that_lack(self):

@@ -137,6 +137,7 @@ class Numbers(Texts):
         self.assertEqual(volume(read_solid("{ array 100/2 by 2,0,0 { box 0,0,0 to 1,1,1 } }")), 50 * 10 ** 9)
         self.assertEqual(read_solid("{ array 1 by 2,0,0 { box 0,0,0 to 1,1,1 } }"), CUBE)
         self.assertEqual(read_solid("{ turn 2 - 2 { box 0,0,0 to 1,1,1 } }"), CUBE)
+        self.assertEqual(volume(read_solid("{ array 6 / -2 * 2 / -3 by 2,0,0 { box 0,0,0 to 1,1,1 } }")), 2 * 10 ** 9)
         for count in ("0", "51", "2.5", "1/3", "-1", "25 + 26", "(51)"):
             self.assert_wrong("{ array " + count + " by 2,0,0 { } }", 1, 9)
         for count in ("24", "-1", "0.5", "100", "12 * 2"):
@@ -153,6 +154,7 @@ class Numbers(Texts):
         self.assert_wrong("let a = -1000 * 1000 * 1000 * 1001", 1, 9)
         self.assert_wrong("let a = 5 + 1 / 1000 / 1000 / 1000 / 1001", 1, 13)
         self.assert_wrong("let a = 1 / 999999 + 1 / 999998 + 1 / 999997", 1, 9)
+        self.assert_wrong("let a = 1 / -1000 / 1000 / 1000 / 1001", 1, 9)
         self.assert_wrong("let a = 2 * 3 + (1000 * 1000 * 1000 * 1000 + 1)", 1, 18)
         for good in ("1000 * 1000 * 1000 * 1000", "-1000 * 1000 * 1000 * 1000", "1 / 1000 / 1000 / 1000 / 1000",
                      "3 / 1000 / 1000 / 1000 / 1000 / 3", "1000 * 1000 * 1000 * 1000 - 1", "1 / 999999 + 1 / 999998",

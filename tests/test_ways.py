@@ -78,6 +78,30 @@ class Ways(unittest.TestCase):
         self.assertEqual((heights[(0, 2, 0)], heights[(2, 2, 0)], (1, 2, 0) in heights), (2, 8, False))
         self.assertEqual(heights_for(MAZE, (0, 0, 0), (4, 0, 3))[(4, 0, 0)], 12)
 
+        # A step beside the lot, along each axis: the planes through the end have nothing of the lot.
+        for end in ((5, 0, 0), (-1, 0, 0), (0, 5, 0), (0, -1, 0), (0, 0, 1), (0, 0, -1)):
+            cubes = cubes_of(MAZE)
+            wanted = {cube: far for cube, far in flooded(cubes, (0, 0, 0)).items()
+                      if on_planes(planes_of(MAZE, (0, 0, 0), end), cube)}
+            self.assertEqual(heights_for(MAZE, (0, 0, 0), end), wanted)
+
+    def test_mazes_against_own_search(self):
+        chance = random.Random(12)
+        for _ in range(150):
+            all_cubes = sorted(cubes_of(box((0, 0, 0), (chance.randint(5, 9), chance.randint(5, 9), chance.randint(1, 2)))))
+            cubes = set(chance.sample(all_cubes, int(len(all_cubes) * chance.uniform(0.55, 0.8))))
+            lot = solid_of(cubes)
+            start = chance.choice(sorted(cubes))
+            far = flooded(cubes, start)
+            for end in chance.sample(sorted(far), min(4, len(far))):
+                way = way_in(lot, start, end)
+                self.assertIs(is_way(lot, way), True)
+                self.assertEqual((way[0], way[-1], length_of(way)), (start, end, far[end]))
+                heights = heights_for(lot, start, end)
+                self.assertEqual(heights, {cube: far[cube] for cube in far
+                                           if on_planes(planes_of(lot, start, end), cube)})
+                self.assertIs(is_least_way(lot, way, heights), True)
+
     def test_ends_outside_of_the_lot(self):
         self.assertIsNone(way_in(MAZE, (1, 0, 0), (0, 0, 0)))
         self.assertIsNone(way_in(MAZE, (0, 0, 0), (1, 0, 0)))
@@ -139,6 +163,14 @@ class Least(unittest.TestCase):
         self.assertEqual(sorted(heights), [(0, 0, 0), (0, 4, 0), (4, 0, 0), (4, 4, 0)])
         self.assertIs(is_least_way(lot, way, heights), True)
         self.assertIs(is_least_way(lot, way, {**heights, (2, 0, 0): 2}), False)
+
+    def test_points_on_planes_outside_of_the_lot_are_not_taken(self):
+        lot = union(MAZE, box((1, 0, 3), (2, 1, 4)))
+        way = ((0, 0, 0), (0, 4, 0))
+        heights = heights_for(lot, *way)
+        self.assertIs(is_least_way(lot, way, heights), True)
+        self.assertIs(is_least_way(lot, way, {**heights, (1, 0, 0): 1}), False)
+        self.assertIs(is_least_way(lot, way, {**heights, (1, 0, 3): 1}), True)
 
     def test_longer_ways_are_not_taken(self):
         start, end = (0, 0, 0), (0, 4, 0)
