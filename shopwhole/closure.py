@@ -45,22 +45,30 @@ class Pairing:
         return taken_back(self.setup, less(stuff, cut)) if do_meet(stuff, cut) else rest
 
 
-def closure(job):
-    """The least rest that any program can leave, and for each setup and tool all standings it can come to."""
+def rounds_of(job):
+    """The closure's paper, and the list of (setup, tool, lot), numbers of the job, of what cuts something for it."""
     pairings = [[Pairing(job, setup, tool) for tool in job[4]] for setup in job[5]]
-    rest = job[0]
+    rest, rounds = job[0], []
     while True:
         ahead = rest
         lots = []
-        for row in pairings:
+        for setup, row in enumerate(pairings):
             found = []
-            for pairing in row:
+            for tool, pairing in enumerate(row):
                 lot = pairing.come_to(rest)
-                rest = pairing.left_of(rest, lot)
+                left = pairing.left_of(rest, lot)
+                if left != rest:
+                    rounds.append((setup, tool, lot))
+                rest = left
                 found.append(lot)
             lots.append(tuple(found))
         if rest == ahead:
-            return rest, tuple(lots)
+            return (rest, tuple(lots)), rounds
+
+
+def closure(job):
+    """The least rest that any program can leave, and for each setup and tool all standings it can come to."""
+    return rounds_of(job)[0]
 
 
 def is_closed(job, setup, tool, rest, lot):

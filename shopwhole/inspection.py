@@ -2,6 +2,7 @@
 
 from shopwhole.forms import stretch_at
 from shopwhole.plain import times, with_number
+from shopwhole.sides import step_to
 from shopwhole.solids import bounds, box, boxes_of, has, is_within, less, meet, moved, spread
 
 
@@ -16,11 +17,6 @@ def taker_of(stocks, point):
         if has(ahead, point) and not has(behind, point):
             return number
     return None
-
-
-def step_to(side):
-    """The step of one unit towards a side."""
-    return with_number((0, 0, 0), side[0], side[1])
 
 
 def faces_of(solid, side):

@@ -31,3 +31,12 @@ def job_with_tool(tool):
 
 def job_with_setup(setup):
     return changed(JOB, 5, (setup,))
+
+
+# The program of the document's examples: a slot two units long.
+DOWN = (("setup", "flat"), ("tool", "mill"), ("rapid", 0, 1), ("rapid", 1, 1), ("rapid", 2, 2))
+PROGRAM = (*DOWN, ("cut", 2, 1), ("cut", 0, 2), ("rapid", 2, 4), ("rapid", 0, 0), ("rapid", 1, 0))
+
+# A cave in the middle, to which no tool comes, and one that is open but too narrow.
+CAVE = changed(JOB, 1, less(box((0, 0, 0), (4, 3, 2)), box((1, 1, 0), (3, 2, 1))))
+NARROW = changed(JOB, 4, (("wide", box((0, 0, 0), (2, 2, 1)), (), 1),))

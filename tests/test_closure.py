@@ -3,89 +3,18 @@
 import random
 import unittest
 
-from cubes import beside, cubes_of, cubes_of_box, flooded, minus, plus, random_solid, solid_of
-from shop import FLAT, JOB, MACHINE, MILL, POCKET, STOCK, WISHED, changed
+from cubes import beside, cubes_of, flooded, random_solid, solid_of
+from drawn import own_closure, own_free, some_jobs
+from shop import CAVE, FLAT, JOB, MACHINE, MILL, NARROW, POCKET, STOCK, WISHED, changed
 from shopwhole.closure import can_be_made, closure, free_lot, is_paper, shows_never
 from shopwhole.jobs import is_fine, is_job, placed
 from shopwhole.jobtexts import read_job
 from shopwhole.lots import cube_at
 from shopwhole.solids import box, is_within, less, moved, spread, union
-from shopwhole.turns import turned_point
-
-
-def cube_placed(setup, cube):
-    one, other = turned_point(cube, setup[1]), turned_point(plus(cube, (1, 1, 1)), setup[1])
-    return plus(tuple(min(pair) for pair in zip(one, other)), setup[2])
-
-
-def own_free(job, setup, tool, rest):
-    """The standings of the travel that are free, each looked at by itself."""
-    low, high = job[3][:2]
-    cutter, holder, fixture = cubes_of(tool[1]), cubes_of(tool[2]), cubes_of(setup[3])
-    kept = {cube_placed(setup, cube) for cube in cubes_of(job[1])} | fixture
-    stuff = {cube_placed(setup, cube) for cube in rest} | fixture
-    met = {minus(one, cube) for one in kept for cube in cutter} | {minus(one, cube) for one in stuff for cube in holder}
-    return cubes_of_box(low, plus(high, (1, 1, 1))) - met
-
-
-def own_closure(job):
-    """The least rest, going from standing to standing, till nothing more is cut."""
-    rest = cubes_of(job[0])
-    while True:
-        ahead, lots = set(rest), []
-        for setup in job[5]:
-            row = []
-            for tool in job[4]:
-                reached = set(flooded(own_free(job, setup, tool, rest), job[3][2]))
-                cutter = cubes_of(tool[1])
-                met = {plus(cube, at) for cube in cutter for at in reached}
-                rest = {cube for cube in rest if cube_placed(setup, cube) not in met}
-                row.append(reached)
-            lots.append(row)
-        if rest == ahead:
-            return rest, lots
-
-
-def random_job(chance):
-    """A small job, or a thing that is none."""
-    stock = box((0, 0, 0), (4, 4, 3))
-    if chance.random() < 0.4:
-        stock = less(stock, random_solid(chance, 0, 4, 2)[0])
-    wished = less(stock, random_solid(chance, -1, 5, 4)[0])
-    machine = ((-2, -2, -1), (6, 6, 6), (chance.choice((-2, 0, 6)), 0, 6), 1, 1, 1)
-    tools = []
-    for name in ("a", "b")[:chance.randint(1, 2)]:
-        wide, long = chance.randint(1, 2), chance.randint(1, 3)
-        cutter = box((0, 0, 0), (wide, chance.randint(1, 2), long))
-        if chance.random() < 0.3:
-            cutter = union(cutter, box((-1, 0, 0), (1, 1, 1)))
-        holder = chance.choice(((), box((-1, -1, long), (wide + 1, 2, long + 2)), box((0, 0, long), (1, 1, long + 3))))
-        tools.append((name, cutter, holder, 1))
-    setups = []
-    for name in ("p", "q")[:chance.randint(1, 2)]:
-        turn = chance.choice((0, 0, *range(24)))
-        corner = tuple(min(pair) for pair in zip(turned_point((0, 0, 0), turn), turned_point((4, 4, 3), turn)))
-        fixture = chance.choice(((), (), box((-1, 1, 0), (0, 3, 2)), box((0, 0, -1), (4, 4, 0))))
-        setups.append((name, turn, minus((0, 0, 0), corner), fixture))
-    return (stock, wished, chance.choice((0, 0, 1)), machine, tuple(tools), tuple(setups))
-
-
-def some_jobs(seed, many):
-    chance, out = random.Random(seed), []
-    while len(out) < many:
-        job = random_job(chance)
-        if is_job(job):
-            out.append(job)
-    return out
 
 
 def with_lot(paper, setup, tool, lot):
     return paper[0], changed(paper[1], setup, changed(paper[1][setup], tool, lot))
-
-
-# A cave in the middle, to which no tool comes, and one that is open but too narrow.
-CAVE = changed(JOB, 1, less(box((0, 0, 0), (4, 3, 2)), box((1, 1, 0), (3, 2, 1))))
-NARROW = changed(JOB, 4, (("wide", box((0, 0, 0), (2, 2, 1)), (), 1),))
 
 
 class Free(unittest.TestCase):

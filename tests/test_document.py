@@ -7,6 +7,7 @@ import os
 import unittest
 
 import shopwhole.errors
+from shop import JOB
 
 INTERFACE = {
     "solids": """is_solid(thing) box(corner,other) union(a,b) meet(a,b) less(a,b) union_of(solids) is_within(a,b)
@@ -23,10 +24,31 @@ INTERFACE = {
         is_least(jobs,machines,plan,table)""",
     "inspection": """taken_by(stocks) taker_of(stocks,point) faces_of(solid,side) faces_made(solid,taken,side)
         slice_text(solid,height) probe(solid,point,side) excess(solid,wished) lacking(solid,wished)""",
+    "leastrounds": "least_program(job) is_least_round(job,told) way_of_round(job,told)",
+    "nesting": """are_blanks(thing) size_of_tree(blanks,tree,saw) is_cutting(blanks,plate,saw,tree)
+        places_of(blanks,tree,saw,corner) fronts_of(blanks,saw) cut_up(blanks,plate,saw)
+        is_never(blanks,plate,saw,fronts)""",
+    "assembly": """are_parts(thing) in_the_way(parts,name,side) is_order(parts,order) taken_apart(parts)
+        put_together(parts) locks_of(parts,core) is_locked(parts,core,locks)""",
+    "views": "view(solid,axis) views(solid) greatest_with(told) are_views(told) fits_views(solid,told)",
+    "holding": """free_steps(solid,stuff) is_held(solid,clamps,names) fewest_clamps(solid,clamps)
+        are_fewest(solid,clamps,names,papers)""",
     "jobs": "placed(setup,solid) taken_back(setup,solid) check_job(job) is_job(thing) is_fine(job,solid)",
     "lots": "cube_at(standing) line_lot(start,axis,to) travel_lot(machine)",
+    "motor": "run_motor(job,program)",
+    "judge": "judge(job,program) is_good(job,program) is_program(thing)",
+    "stops": "run_history(job,program,history) steps_in(job,program) most_steps(job,program,history)",
+    "strokes": "strokes_for(lot,cutter,stock)",
+    "plans": "program_for(job)",
+    "choices": """job_with(job,kind,choice) setups_needed(job) tools_needed(job)
+        are_papers(job,kind,choice,papers)""",
     "closure": """free_lot(job,setup,tool,rest) closure(job) is_paper(job,paper) can_be_made(job)
         shows_never(job,paper)""",
+}
+# Each class with what it is made of, its methods, and the attributes that it has from the beginning.
+CLASSES = {
+    "motor": ("Motor(job)", "do(self,block)", "stock setup tool standing steps"),
+    "stops": ("Stopped(job)", "do(self,block) start(self,program,stop)", "stock setup tool standing steps journal"),
 }
 ERRORS = {"BadThing": ("thing",), "BadText": ("line", "column"), "BadJob": ("name", "why"), "BadPaper": ("why",),
           "Alarm": ("why",)}
@@ -42,6 +64,20 @@ class Interface(unittest.TestCase):
                 self.assertTrue(inspect.isfunction(function), name)
                 self.assertEqual(function.__module__, f"shopwhole.{module}", name)
                 self.assertEqual(",".join(inspect.signature(function).parameters), arguments, name)
+
+    def test_classes_have_their_methods_themselves(self):
+        for module, (told, methods, attributes) in CLASSES.items():
+            name, arguments = told[:-1].split("(")
+            found = getattr(importlib.import_module(f"shopwhole.{module}"), name)
+            self.assertTrue(inspect.isclass(found))
+            self.assertEqual(found.__module__, f"shopwhole.{module}")
+            self.assertEqual(",".join(inspect.signature(found).parameters), arguments)
+            for method in methods.split():
+                word, arguments = method[:-1].split("(")
+                self.assertIn(word, vars(found))
+                self.assertEqual(",".join(inspect.signature(vars(found)[word]).parameters), arguments)
+            for word in attributes.split():
+                self.assertIn(word, vars(found(JOB)))
 
     def test_errors(self):
         self.assertEqual(shopwhole.errors.ShopError.__bases__, (Exception,))
@@ -63,7 +99,7 @@ class Examples(unittest.TestCase):
         path = os.path.join(os.path.dirname(os.path.abspath(__file__)), "examples.txt")
         with open(path, encoding="utf-8") as file:
             told = doctest.DocTestParser().get_doctest(file.read(), {}, "examples", path, 0)
-        self.assertGreater(len(told.examples), 30)
+        self.assertGreater(len(told.examples), 70)
         results = doctest.DocTestRunner(verbose=False).run(told)
         self.assertEqual(results.failed, 0)
 

@@ -57,6 +57,8 @@ def locals_of(function):
     for node in ast.walk(function):
         if isinstance(node, ast.Name) and isinstance(node.ctx, (ast.Store, ast.Del)):
             names.add(node.id)
+        if isinstance(node, ast.ExceptHandler) and node.name:
+            names.add(node.name)
         if isinstance(node, ast.Lambda):
             names.update(argument.arg for argument in node.args.args)
     return names
@@ -207,7 +209,8 @@ class Language(unittest.TestCase):
 
     def test_views_and_zips_are_gone_through_at_once(self):
         kinds = {"zip", "enumerate", "reversed", "range", "items", "keys", "values"}
-        takers = {"list", "tuple", "dict", "sorted", "sum", "any", "all", "enumerate", "zip", "min", "max"}
+        takers = {"list", "tuple", "dict", "sorted", "sum", "any", "all", "enumerate", "zip", "min", "max",
+                  "combinations", "permutations", "product"}
         for name in package_files():
             tree = tree_of(name)
             allowed = set()
