@@ -6,7 +6,7 @@ import unittest
 from cubes import cubes_of, solid_of
 from drawn import some_jobs
 from ownshop import other_program, own_judge
-from shop import DOWN, FLAT, JOB, MACHINE, MILL, POCKET, PROGRAM, STOCK, WISHED, changed, job_with_setup, job_with_tool
+from shop import DOWN, FLAT, JOB, MACHINE, MILL, POCKET, PROGRAM, STOCK, WISHED, changed, job_with_setup
 from shopwhole.judge import is_good, is_program, judge
 from shopwhole.jobs import is_fine, is_job, taken_back
 from shopwhole.jobtexts import read_job

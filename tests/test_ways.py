@@ -3,7 +3,7 @@
 import random
 import unittest
 
-from cubes import beside, cubes_of, flooded, plus, random_solid, solid_of
+from cubes import beside, cubes_of, flooded, random_solid, solid_of
 from shopwhole.lots import cube_at
 from shopwhole.solids import box, boxes_of, less, piece_with, union
 from shopwhole.ways import heights_for, is_least_way, is_parted, is_way, length_of, way_in
