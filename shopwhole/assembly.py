@@ -118,7 +118,7 @@ def is_core(parts, thing):
     """Whether a thing is two unlike names of parts at least."""
     if not isinstance(thing, tuple) or len(thing) < 2:
         return False
-    if not all([isinstance(name, str) and name in names_of(parts) for name in thing]):
+    if not all([name in names_of(parts) for name in thing]):
         return False
     return len(set(thing)) == len(thing)
 

@@ -1,13 +1,28 @@
 """Views: the shadows of solids along the axes, and the greatest solid that has them."""
 
+from shopwhole.forms import merged, put
 from shopwhole.plain import with_number
-from shopwhole.solids import bounds, box, boxes_of, meet, union_of
+from shopwhole.solids import bounds, box, meet, union_of
+
+
+def drawn_layer(layer, axis, low, high):
+    """What a layer's boxes are together, each drawn along x, or y, from one number to another."""
+    if axis == 1:
+        return ((low, high, merged(sorted([stretch for _, _, row in layer for stretch in row]))),)
+    out = []
+    for near, far, _ in layer:
+        put(out, near, far, ((low, high),))
+    return tuple(out)
 
 
 def drawn_out(solid, axis, low, high):
-    """The union of a solid's boxes, each drawn along an axis from one number to another."""
-    return union_of([box(with_number(corner, axis, low), with_number(other, axis, high))
-                     for corner, other in boxes_of(solid)])
+    """What a solid's boxes are together, each drawn along an axis from one number to another."""
+    if axis == 2:
+        return union_of([((low, high, layer),) for _, _, layer in solid])
+    out = []
+    for under, over, layer in solid:
+        put(out, under, over, drawn_layer(layer, axis, low, high))
+    return tuple(out)
 
 
 def view(solid, axis):
@@ -21,17 +36,11 @@ def views(solid):
 
 
 def shown(told, axis):
-    """What a view along an axis has where views lie, from 0 to 1: all else of it shows nothing."""
+    """What of a thing told for a view lies where views do, from 0 to 1 along their axis."""
     if told == ():
         return ()
     low, high = bounds(told)
     return meet(told, box(with_number(low, axis, 0), with_number(high, axis, 1)))
-
-
-def room(told, axis):
-    """The stretch along an axis in which a solid of two views must be, each not along it."""
-    ends = [bounds(solid) for solid in told]
-    return min([low[axis] for low, _ in ends]), max([high[axis] for _, high in ends])
 
 
 def greatest_with(told):
@@ -39,12 +48,12 @@ def greatest_with(told):
     parts = [shown(told[axis], axis) for axis in range(3)]
     if () in parts:
         return ()
-    out = None
+    drawn = []
     for axis in range(3):
-        low, high = room(parts[:axis] + parts[axis + 1:], axis)
-        drawn = drawn_out(parts[axis], axis, low, high)
-        out = drawn if out is None else meet(out, drawn)
-    return out
+        # How far the solid goes along the axis another view tells: the one ahead, or the last one.
+        low, high = bounds(parts[axis - 1])
+        drawn.append(drawn_out(parts[axis], axis, low[axis], high[axis]))
+    return meet(meet(drawn[0], drawn[1]), drawn[2])
 
 
 def fits_views(solid, told):

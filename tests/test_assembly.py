@@ -5,7 +5,7 @@ import unittest
 
 from cubes import cubes_of, random_solid
 from shopwhole.assembly import are_parts, in_the_way, is_locked, is_order, locks_of, put_together, taken_apart
-from shopwhole.solids import box, less, union
+from shopwhole.solids import box, less, moved, union
 
 SIDES = ((0, -1), (0, 1), (1, -1), (1, 1), (2, -1), (2, 1))
 CUP = ("cup", less(box((0, 0, 0), (3, 3, 3)), box((1, 1, 1), (2, 2, 3))))
@@ -100,6 +100,9 @@ class Ways(unittest.TestCase):
             self.assertEqual(in_the_way(parts, "far", (axis, -1)), ["near"])
             self.assertEqual(in_the_way(parts, "near", (axis, -1)), [])
             self.assertEqual(in_the_way(parts, "far", (axis, 1)), [])
+            back = tuple([(name, moved(solid, tuple(-number for number in far))) for name, solid in parts])
+            self.assertEqual(in_the_way(back, "near", (axis, 1)), ["far"])
+            self.assertEqual(in_the_way(back, "far", (axis, -1)), ["near"])
 
     def test_order_of_parts_and_what_is_round_about(self):
         self.assertEqual(in_the_way(CLOSED, "peg", (2, 1)), ["lid"])
@@ -127,6 +130,8 @@ class Orders(unittest.TestCase):
                       None, 5, "lid", ("lid", (2, 1)), (("lid", None),), ((None, (2, 1)),), ((["lid"], (2, 1)),),
                       (("lid", ("2", 1)),), (("lid", (2, "1")),)):
             self.assertIs(is_order(CLOSED, order), False, order)
+        for way in (-2, 0, 2):
+            self.assertIs(is_order((CUP,), (("cup", (2, way)),)), False)
         self.assertIs(is_order(HOOKS, (("one", (0, -1)),)), False)
         self.assertIs(is_order(HOOKS, (("one", (0, 1)),)), True)
         self.assertIs(is_order(HOOKS, (("one", (False, 1)),)), False)
@@ -204,6 +209,9 @@ class Locks(unittest.TestCase):
         for core in ((), ("shell",), ("shell", "shell"), ("shell", "hat"), list(self.core), ("shell", "core", "hat"), None, 5,
                      ("shell", None), ("shell", ["core"]), "shell", ("shell", "core", "core")):
             self.assertIs(is_locked(SHELL, core, self.locks), False)
+        hat = tuple([("hat", side, "shell") for side in SIDES])
+        self.assertIs(is_locked(SHELL, ("shell", "hat"), self.locks[:6] + hat), False)
+        self.assertIs(is_locked(SHELL, ("core", "hat"), self.locks[6:] + hat), False)
         self.assertIs(is_locked(SHELL, (), ()), False)
         self.assertIs(is_locked(SHELL, ("shell",), self.locks[:6]), False)
 

@@ -161,7 +161,7 @@ class Papers(unittest.TestCase):
                          (choice, None), (None, paper), (choice, (paper[0], ())), (choice, (self.job[1], paper[1])),
                          (choice, (self.job[0], paper[1])), (choice, closure(self.job)), ((place + 1,), paper),
                          ((bool(place),), paper) if place < 2 else None, None, ()):
-                if pair != (choice, paper):
+                if repr(pair) != repr((choice, paper)):
                     self.assert_not_taken(self.choice, changed(papers, place, pair))
 
     def test_papers_of_others(self):

@@ -154,6 +154,10 @@ class Fewest(unittest.TestCase):
         names, papers = fewest_clamps(BAR, (*WALLS[:2], shell, ("again", shell[1])))
         self.assertEqual((names, len(papers), papers[0][0]), (("shell",), 1, ()))
         self.assertIn((papers[0][1], papers[0][2]), free_steps(BAR, ()))
+        # More names than there are clamps, for which there are no lots of one fewer.
+        for names in (("shell", "hat", "cap"), ("shell", "shell", "shell"), ("shell", "shell"), ("shell", "hat")):
+            self.assertIs(are_fewest(BAR, (shell,), names, ()), False)
+            self.assertIs(are_fewest(BAR, (shell,), names, ((("shell",), 0, (0, 1)),)), False)
 
 
 class Papers(unittest.TestCase):

@@ -245,6 +245,18 @@ class Changed(unittest.TestCase):
         self.assertIs(is_least_round(job, (*told[:3], told[3][:6], None, None)), False)
         self.assertIs(is_least_round(job, (*told[:3], told[3][:6], order, None)), False)
         self.assertTrue(is_job(job))
+        # Things that are no strokes within the lot, among as many.
+        (begin, end), others = told[3][0], told[3][1:]
+        for stroke in ((end, begin), (begin, changed(end, 1, end[1] + 2)), (begin, changed(end, 2, end[2] + 1)),
+                       (begin, changed(end, 0, 99)), (begin, (*end, 1)), (begin, None), (None, end), (begin,),
+                       (list(begin), end), (begin, changed(end, 0, "3")), (begin, end, end), begin,
+                       ((1, 0, 1), (3, 0, 1))):
+            self.assertIs(is_least_round(job, changed(told, 3, (stroke, *others))), False, stroke)
+        self.assertIs(is_least_round(job, changed(told, 3, ((begin, begin), *others))), True)
+
+    def test_no_way(self):
+        lot = less(self.told[2], cube_at(self.told[3][0][0]))
+        self.assertIsNone(way_of_round(self.job, changed(self.told, 2, lot)))
 
 
 if __name__ == "__main__":

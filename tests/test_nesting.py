@@ -226,6 +226,10 @@ class Fronts(unittest.TestCase):
         # Less than any tree comes to: still no tree fits, if not even these do.
         self.assertIs(is_never(AB, (5, 2), 1, {**self.fronts, ("a", "b"): ((6, 1), (2, 3))}), True)
         self.assertIs(is_never(AB, (5, 2), 1, {**self.fronts, ("a", "b"): ((1, 1),)}), False)
+        # As many units, but no integers.
+        for other in (((6, True), (2, 3)), ((6, 1), (True, 3))):
+            self.assertIs(is_never(AB, (5, 2), 1, {**self.fronts, ("a", "b"): other}), False)
+        self.assertIs(is_never(AB, (5, 2), 1, {**self.fronts, ("a", "b"): ((6, 1), (1, 3))}), True)
         # Less for one alone, so that all that rests on it must be less, too.
         self.assert_not_taken({**self.fronts, ("b",): ((1, 1),)})
 

@@ -51,9 +51,21 @@ class Plans(unittest.TestCase):
             alarm, machine = own_run(job, program)
             self.assertIsNone(alarm)
             self.assertEqual((machine.rest, machine.standing), (rest, job[3][2]))
+            self.assert_plain(job, program)
             blocks.extend(program)
         for name in ("a", "b", "p", "q"):
             self.assertTrue([block for block in blocks if block[1:] == (name,)])
+
+    def assert_plain(self, job, program):
+        """Nothing is told that is so already."""
+        at, taken = job[3][2], {}
+        for block in program:
+            if len(block) == 2:
+                self.assertNotEqual(taken.get(block[0]), block[1])
+                taken[block[0]] = block[1]
+            else:
+                self.assertNotEqual(at[block[1]], block[2])
+                at = changed(at, block[1], block[2])
 
     def test_jobs_that_cannot_be_made(self):
         for job in (CAVE, NARROW):

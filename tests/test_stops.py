@@ -211,6 +211,19 @@ class Journal(unittest.TestCase):
         self.assertIs(machine.start((*LONG[:10], *LONG[11:]), (10, True)), False)
         self.assertEqual((machine.journal, machine.tool), ([0, 1, None, None], 0))
 
+    def test_the_last_ones_told_ahead_are_taken_again(self):
+        third = (*TWO[:5], (*TWO[5], ("beside", 0, (1, 0, 0), ())))
+        blocks = (("setup", "beside"), ("tool", "other"), ("rest", 1), ("tool", "mill"), ("setup", "flat"), ("rest", 2))
+        for marks, wanted in ((6, (0, 0)), (5, (0, 0)), (4, (1, 0)), (3, (1, 1)), (2, (1, 1)), (1, (1, 1)), (0, (0, 1))):
+            machine = Stopped(third)
+            self.assertIs(machine.start(blocks[:marks], None), True)
+            self.assertEqual(machine.journal, list(range(marks)))
+            # Others are taken by hand, at home.
+            machine.do(("setup", "flat" if marks < 5 else "beside"))
+            machine.do(("tool", "mill" if marks in (2, 3) else "other"))
+            machine.start(blocks[:marks], (0, False))
+            self.assertEqual((machine.setup, machine.tool), wanted)
+
     def test_home_in_the_middle_of_a_block(self):
         """A mark is written, and the way forgotten, at the end of a block alone."""
         through = (*PROGRAM[:2], ("rapid", 0, -2), ("rapid", 0, 3), ("rapid", 0, 0))
