@@ -2,7 +2,7 @@
 
 import random
 
-from cubes import cubes_of, cubes_of_box, flooded, minus, plus, random_solid
+from cubes import cubes_of, cubes_of_box, flooded, minus, plus, random_point, random_solid
 from shopwhole.jobs import is_job
 from shopwhole.solids import box, less, union
 from shopwhole.turns import turned_point
@@ -65,10 +65,27 @@ def random_job(chance):
     return (stock, wished, chance.choice((0, 0, 1)), machine, tuple(tools), tuple(setups))
 
 
+def wild_job(chance):
+    """A small job of odd solids anywhere, or a thing that is none."""
+    stock = random_solid(chance, 0, 4, 6)[0]
+    wished = less(stock, random_solid(chance, 0, 4, 6)[0])
+    tools, setups = [], []
+    for name in ("a", "b"):
+        cutter = random_solid(chance, -1, 2, 4)[0]
+        tools.append((name, cutter, less(random_solid(chance, -2, 3, 3)[0], cutter), chance.randint(0, 5)))
+    for name in ("p", "q"):
+        fixture = random_solid(chance, -3, 6, 1)[0] if chance.random() < 0.5 else ()
+        setups.append((name, chance.randrange(24), random_point(chance, 0, 3), fixture))
+    low, high = random_point(chance, -6, 0), random_point(chance, 2, 9)
+    home = tuple(chance.randint(*pair) for pair in zip(low, high))
+    return (stock, wished, chance.choice((0, 1)), (low, high, home, chance.randint(0, 3), 5, 20), tuple(tools), tuple(setups))
+
+
 def some_jobs(seed, many):
+    """So many drawn jobs, each fourth one a wild one."""
     chance, out = random.Random(seed), []
     while len(out) < many:
-        job = random_job(chance)
+        job = wild_job(chance) if len(out) % 4 == 3 else random_job(chance)
         if is_job(job):
             out.append(job)
     return out

@@ -225,3 +225,13 @@ def other_program(chance, program):
     if kind == 2:
         return (*ahead, *behind[:1], program[place], *behind[1:])
     return (*ahead, other_block(chance, program[place]), *behind)
+
+
+def like_programs(chance, program, many):
+    """The program, and so many that are much like it."""
+    yield program
+    for _ in range(many):
+        told = program
+        for _ in range(chance.randint(1, 3)):
+            told = other_program(chance, told) if told else told
+        yield told

@@ -44,7 +44,7 @@ class Free(unittest.TestCase):
 class Closure(unittest.TestCase):
     def test_against_going_through_all_standings(self):
         made = 0
-        for job in some_jobs(3, 60):
+        for job in some_jobs(3, 90):
             rest, lots = own_closure(job)
             paper = closure(job)
             self.assertEqual(paper, (solid_of(rest), tuple(tuple(solid_of(lot) for lot in row) for row in lots)))
@@ -54,7 +54,7 @@ class Closure(unittest.TestCase):
             self.assertIs(can_be_made(job), is_made)
             self.assertIs(shows_never(job, paper), not is_made)
         self.assertGreater(made, 5)
-        self.assertLess(made, 55)
+        self.assertLess(made, 85)
 
     def test_order_of_setups_and_tools_is_free(self):
         for job in some_jobs(4, 25):

@@ -5,7 +5,7 @@ import unittest
 
 from cubes import cubes_of, solid_of
 from drawn import some_jobs
-from ownshop import other_program, own_judge
+from ownshop import like_programs, own_judge
 from shop import DOWN, FLAT, JOB, MACHINE, MILL, POCKET, PROGRAM, STOCK, WISHED, changed, job_with_setup
 from shopwhole.judge import is_good, is_program, judge
 from shopwhole.jobs import is_fine, is_job, taken_back
@@ -61,9 +61,9 @@ class Judge(unittest.TestCase):
         chance = random.Random(1)
         good, whys = 0, set()
         for job in some_jobs(11, 60):
-            word, program = program_for(changed(job, 2, 9))
+            word, planned = program_for(changed(job, 2, 9))
             self.assertEqual(word, "made")
-            for _ in range(12):
+            for program in like_programs(chance, planned, 12):
                 wanted = own_judge(job, program)
                 told = judge(job, program)
                 if wanted[0] == "good":
@@ -73,8 +73,6 @@ class Judge(unittest.TestCase):
                     whys.add(wanted[2])
                     self.assertEqual(told[:2], wanted[:2], (job, program, wanted))
                 self.assertIs(is_good(job, program), wanted[0] == "good")
-                if program:
-                    program = other_program(chance, program)
         self.assertGreater(good, 50)
         self.assertGreaterEqual(len(whys), 9, whys)
 
@@ -126,6 +124,11 @@ class Judge(unittest.TestCase):
         back = (*PROGRAM[:7], ("rapid", 0, 1), *PROGRAM[7:])
         self.assert_good(changed(job, 4, (cutter_low,)), back)
         self.assert_bad(job, back, 6)
+        # Rapid moves along which the holder alone meets it.
+        aloft = job_with_setup(changed(FLAT, 3, box((-1, 0, 5), (0, 1, 6))))
+        self.assert_bad(aloft, (*PROGRAM, ("rapid", 0, -1)), 10)
+        self.assert_bad(aloft, (*PROGRAM, ("rapid", 2, 5), ("rapid", 0, -1), ("rapid", 2, 4)), 11)
+        self.assertEqual(own_judge(aloft, (*PROGRAM, ("rapid", 0, -1)))[2], "holder at fixture")
         # In the cutter's way while it cuts.
         aside = changed(STOCK, 0, (0, 2, ((0, 3, ((0, 3),)),)))
         job = (aside, less(aside, box((1, 1, 1), (2, 2, 2))), 0, MACHINE, (MILL,),

@@ -5,7 +5,7 @@ import unittest
 
 from cubes import solid_of
 from drawn import some_jobs
-from ownshop import OwnMachine, Stuck, other_program, own_run
+from ownshop import OwnMachine, Stuck, like_programs, own_run
 from shop import DOWN, FLAT, JOB, MACHINE, MILL, POCKET, PROGRAM, STOCK, WISHED, changed, job_with_setup, job_with_tool
 from shopwhole.errors import Alarm
 from shopwhole.jobs import is_job
@@ -72,11 +72,8 @@ class Runs(Machines):
         chance = random.Random(1)
         whys = []
         for job in some_jobs(51, 60):
-            program = program_for(changed(job, 2, 9))[1]
-            for _ in range(10):
+            for program in like_programs(chance, program_for(changed(job, 2, 9))[1], 10):
                 whys.append(self.assert_runs(job, program))
-                if program:
-                    program = other_program(chance, program)
         self.assertGreater(whys.count(None), 100)
         self.assertGreaterEqual(len(set(whys)), 7, set(whys))
 
@@ -108,13 +105,11 @@ class Runs(Machines):
         good = 0
         for job in some_jobs(53, 60):
             job = changed(job, 2, chance.choice((0, 1, 9)))
-            word, program = program_for(job)
-            for _ in range(8 if word == "made" else 0):
+            word, planned = program_for(job)
+            for program in like_programs(chance, planned if word == "made" else (), 10):
                 if is_good(job, program):
                     good += 1
                     self.assertEqual(run_motor(job, program), (("done", job[3][2]), judge(job, program)[1]))
-                if program:
-                    program = other_program(chance, program)
         self.assertGreater(good, 100)
 
     def test_setups_and_tools_told_anew(self):

@@ -5,7 +5,7 @@ import unittest
 
 from cubes import cubes_of, solid_of
 from drawn import some_jobs
-from ownshop import other_program, own_history
+from ownshop import like_programs, own_history
 from shop import CAVE, DOWN, JOB, MILL, POCKET, PROGRAM, STOCK, WISHED, changed
 from shopwhole.errors import Alarm
 from shopwhole.jobtexts import read_job
@@ -107,11 +107,7 @@ class Histories(unittest.TestCase):
         chance = random.Random(3)
         words = []
         for job in some_jobs(62, 25):
-            program = program_for(changed(job, 2, 9))[1]
-            for _ in range(12 if program else 0):
-                program = other_program(chance, program)
-                if not program:
-                    break
+            for program in like_programs(chance, program_for(changed(job, 2, 9))[1], 12):
                 words.append(self.assert_history(job, program, random_history(chance, 20, 4)))
                 words.append(self.assert_history(job, (*program, *program), random_history(chance, 40, 4)))
         self.assertGreater(words.count("alarm"), 100)
