@@ -20,7 +20,7 @@ def first_met(start, axis, to, tool, solid):
 
 def nearest(at, numbers):
     """That of some numbers, or None, which is nearest to a number; None if there is none."""
-    return min([number for number in numbers if number is not None], key=lambda number: abs(number - at), default=None)
+    return min([number for number in numbers if number is not None], key=lambda told: abs(told - at), default=None)
 
 
 class Motor(Worktable):
