@@ -45,25 +45,48 @@ class Pairing:
         return taken_back(self.setup, less(stuff, cut)) if do_meet(stuff, cut) else rest
 
 
-def rounds_of(job):
-    """The closure's paper, and the list of (setup, tool, lot), numbers of the job, of what cuts something for it."""
-    pairings = [[Pairing(job, setup, tool) for tool in job[4]] for setup in job[5]]
+class Pairings:
+    """What each tool in each setup comes to and leaves, worked out when it is asked for."""
+
+    def __init__(self, job):
+        self.job = job
+        self.pairings = {}
+
+    def pairing(self, setup, tool):
+        """What doesn't change of a tool in a setup, told by their numbers."""
+        if (setup, tool) not in self.pairings:
+            self.pairings[(setup, tool)] = Pairing(self.job, self.job[5][setup], self.job[4][tool])
+        return self.pairings[(setup, tool)]
+
+    def answer(self, setup, tool, rest):
+        """The lot that a tool in a setup comes to, if so much is left, and what it leaves of it there."""
+        pairing = self.pairing(setup, tool)
+        lot = pairing.come_to(rest)
+        return lot, pairing.left_of(rest, lot)
+
+
+def rounds_by(job, pairings):
+    """The closure's paper, and the list of rounds: (setup, tool, lot, the rest ahead) of what cuts something for it."""
     rest, rounds = job[0], []
     while True:
         ahead = rest
         lots = []
-        for setup, row in enumerate(pairings):
+        for setup in range(len(job[5])):
             found = []
-            for tool, pairing in enumerate(row):
-                lot = pairing.come_to(rest)
-                left = pairing.left_of(rest, lot)
+            for tool in range(len(job[4])):
+                lot, left = pairings.answer(setup, tool, rest)
                 if left != rest:
-                    rounds.append((setup, tool, lot))
+                    rounds.append((setup, tool, lot, rest))
                 rest = left
                 found.append(lot)
             lots.append(tuple(found))
         if rest == ahead:
             return (rest, tuple(lots)), rounds
+
+
+def rounds_of(job):
+    """The closure's paper, and the list of rounds that cut something for it."""
+    return rounds_by(job, Pairings(job))
 
 
 def closure(job):

@@ -1,6 +1,7 @@
 """Solids and jobs as texts."""
 
 from shopwhole.jobs import check_job
+from shopwhole.lengths import length_text
 from shopwhole.solids import boxes_of
 from shopwhole.textpieces import Reader
 from shopwhole.textshapes import is_telling, read_group, read_telling
@@ -19,14 +20,6 @@ def read_solid(text):
     while reader.kind() != "stop":
         reader.take("\n")
     return solid
-
-
-def length_text(length):
-    """Thousandths as millimetres."""
-    sign = "-" if length < 0 else ""
-    whole, rest = divmod(abs(length), 1000)
-    behind = f".{rest:03d}".rstrip("0") if rest else ""
-    return f"{sign}{whole}{behind}"
 
 
 def point_text(point):

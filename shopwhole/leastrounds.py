@@ -61,7 +61,7 @@ def least_program(job):
         return "never", paper
     tape = Tape(job)
     out = []
-    for setup, tool, lot in rounds:
+    for setup, tool, lot, _ in rounds:
         tape.change_to(setup, tool)
         told = round_for(setup, tool, lot, tuple(strokes_for(lot, tape.cutter(), tape.stuff)), tape.home)
         for begin, end in as_told(told):

@@ -44,11 +44,19 @@ INTERFACE = {
         are_papers(job,kind,choice,papers)""",
     "closure": """free_lot(job,setup,tool,rest) closure(job) is_paper(job,paper) can_be_made(job)
         shows_never(job,paper)""",
+    "edits": "program_again(job,book)",
+    "codewords": "sum_of(line) words_of(line,number)",
+    "codereader": "read_code(text,home)",
+    "codewriter": "code_text(program,has_sums) relative_text(program,home)",
+    "tidy": "tidied(job,program) do_same(job,one,other) first_alarm(job,program)",
+    "timeline": """times_of(job,program) length_of_time(job,program) where_at(job,program,tick)
+        wear_of(job,program)""",
 }
 # Each class with what it is made of, its methods, and the attributes that it has from the beginning.
 CLASSES = {
     "motor": ("Motor(job)", "do(self,block)", "stock setup tool standing steps"),
     "stops": ("Stopped(job)", "do(self,block) start(self,program,stop)", "stock setup tool standing steps journal"),
+    "edits": ("Book()", "", "asked used"),
 }
 ERRORS = {"BadThing": ("thing",), "BadText": ("line", "column"), "BadJob": ("name", "why"), "BadPaper": ("why",),
           "Alarm": ("why",)}
@@ -73,11 +81,11 @@ class Interface(unittest.TestCase):
             self.assertEqual(found.__module__, f"shopwhole.{module}")
             self.assertEqual(",".join(inspect.signature(found).parameters), arguments)
             for method in methods.split():
-                word, arguments = method[:-1].split("(")
+                word, taken = method[:-1].split("(")
                 self.assertIn(word, vars(found))
-                self.assertEqual(",".join(inspect.signature(vars(found)[word]).parameters), arguments)
+                self.assertEqual(",".join(inspect.signature(vars(found)[word]).parameters), taken)
             for word in attributes.split():
-                self.assertIn(word, vars(found(JOB)))
+                self.assertIn(word, vars(found(JOB) if arguments else found()))
 
     def test_errors(self):
         self.assertEqual(shopwhole.errors.ShopError.__bases__, (Exception,))
