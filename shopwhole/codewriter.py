@@ -1,9 +1,8 @@
 """Programs written as a machine's code."""
 
-from shopwhole.blocks import is_move
 from shopwhole.codewords import LENGTH_LETTERS, sum_of
 from shopwhole.lengths import length_text
-from shopwhole.plain import with_number
+from shopwhole.relative import as_ways
 
 WAYS_LINE = "G91"
 END_LINE = "M30"
@@ -27,19 +26,6 @@ def code_text(program, has_sums):
     if has_sums:
         lines = [f"{line}*{sum_of(line)}" for line in lines]
     return "\n".join(lines)
-
-
-def as_ways(program, home):
-    """The list of the blocks of a program, begun at home, with ways in the place of numbers to go to."""
-    out, at = [], home
-    for block in program:
-        if is_move(block):
-            word, axis, to = block
-            out.append((word, axis, to - at[axis]))
-            at = with_number(at, axis, to)
-        else:
-            out.append(block)
-    return out
 
 
 def relative_text(program, home):

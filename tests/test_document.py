@@ -51,6 +51,14 @@ INTERFACE = {
     "tidy": "tidied(job,program) do_same(job,one,other) first_alarm(job,program)",
     "timeline": """times_of(job,program) length_of_time(job,program) where_at(job,program,tick)
         wear_of(job,program)""",
+    "lives": "lives_hold(job,program,lives) with_changes(job,program,lives)",
+    "loads": "load_of(stock,cutter,start,axis,to) loads_of(job,program) loads_hold(job,program,limits)",
+    "greatest": """with_cutter(job,at,wide,deep) greatest_cutter(job,at,deep,most)
+        is_greatest(job,at,deep,most,told) with_stock(job,stock) least_stock(job,stocks)""",
+    "twoheads": """are_programs(thing) judge_two(job,machine,at,programs) run_two(job,machine,at,programs,turns)
+        with_meets(job,machine,at,programs)""",
+    "folding": "folded(program,home) unfolded(pieces,items,home) folded_text(program,home)",
+    "palettes": "many_job(job,places) many_program(job,program,places) is_clear(job,program,places)",
 }
 # Each class with what it is made of, its methods, and the attributes that it has from the beginning.
 CLASSES = {
