@@ -32,7 +32,7 @@ def first_made(choices):
 
 def greatest_cutter(job, at, deep, most):
     """(wide, papers): the greatest width with which a job can be made, 0 without one, and papers for greater ones."""
-    wide, papers = first_made([(wide, with_cutter(job, at, wide, deep)) for wide in range(most, 0, -1)])
+    wide, papers = first_made([(width, with_cutter(job, at, width, deep)) for width in range(most, 0, -1)])
     return 0 if wide is None else wide, papers
 
 
@@ -51,14 +51,14 @@ def is_greatest(job, at, deep, most, told):
         if not is_job(made) or not can_be_made(made):
             return False
     greater = [(width, with_cutter(job, at, width, deep)) for width in range(most, wide, -1)]
-    jobs = [(width, made) for width, made in greater if is_job(made)]
+    jobs = [pair for pair in greater if is_job(pair[1])]
     if not is_tuple_of(papers, len(jobs)):
         return False
-    return all([is_paper_of(width, made, paper) for (width, made), paper in zip(jobs, papers)])
+    return all([is_paper_of(*pair, paper) for pair, paper in zip(jobs, papers)])
 
 
 def least_stock(job, stocks):
     """(number, papers) for the first stock, by volume, with which a job can be made, and those ahead; None without."""
-    order = sorted([(volume(stock), number) for number, stock in enumerate(stocks)])
-    number, papers = first_made([(number, with_stock(job, stocks[number])) for _, number in order])
+    order = sorted([(volume(stock), place) for place, stock in enumerate(stocks)])
+    number, papers = first_made([(place, with_stock(job, stocks[place])) for _, place in order])
     return None if number is None else (number, papers)

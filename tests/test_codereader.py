@@ -242,7 +242,8 @@ class Wrong(unittest.TestCase):
         self.assert_wrong("G1 N5 X1\nM30", 1, 4)
 
     def test_words_that_cannot_stand_there(self):
-        for line in ("L5", "P5", "G2", "G5", "G92", "G900", "M0", "M3", "M98", "M100", "M29", "M31", "G3 X1"):
+        for line in ("L5", "P5", "G2", "G5", "G92", "G900", "M0", "M3", "M98", "M100", "M29", "M31", "G3 X1", "M4 P5",
+                     "P4 P5", "L4 P5", "M90", "P91", "L90", "M0 X1", "P1 X1"):
             self.assert_wrong(f"{line}\nM30", 1, 1)
             self.assert_wrong(f"G0 X1\n  {line}\nM30", 2, 3)
             self.assert_wrong(f"N5 {line}\nM30", 1, 4)
@@ -336,6 +337,7 @@ class Wrong(unittest.TestCase):
         self.assert_wrong_somewhere("Oa\nG90\nM99\nCa L25001\nM30")
         self.assertEqual(read_code("Oa\nG90\nM99\nCa L25000\nM30", HOME), ())
         self.assertEqual(read_code("Oa\nM99\nCa L50000\nM30", HOME), ())
+        self.assert_wrong_somewhere("Oa\nM99\nCa L50001\nM30")
         self.assert_wrong_somewhere("Oa\nM99\nCa L30000\nCa L30000\nM30")
         lines = ["Oa0", "M99"]
         for depth in range(1, 40):

@@ -48,6 +48,9 @@ class Cutters(unittest.TestCase):
 
     def test_none(self):
         self.assertEqual(self.assert_greatest(CAVE, 0, 1, 3), 0)
+        papers = greatest_cutter(CAVE, 0, 1, 3)[1]
+        for wide in (-1, -2, False, None, 1):
+            self.assertIs(is_greatest(CAVE, 0, 1, 3, (wide, papers)), False)
         # None with which it is a job at all: at home it meets the stock, however narrow.
         low = (*JOB[:3], changed(MACHINE, 2, (1, 1, 0)), (("low", box((9, 9, 9), (10, 10, 10)), (), 1),), JOB[5])
         self.assertTrue(is_job(low))
@@ -60,7 +63,11 @@ class Cutters(unittest.TestCase):
         job = changed(SLOT, 3, ((-9, -9, 0), (14, 14, 9), (-3, 0, 2), 1, 1, 1))
         self.assertEqual(self.assert_greatest(job, 0, 2, 6), 3)
         self.assertEqual(greatest_cutter(job, 0, 2, 6)[1], ())
-        self.assertEqual(self.assert_greatest(changed(job, 1, SLOT[0]), 0, 2, 6), 3)
+        whole = changed(job, 1, SLOT[0])
+        self.assertEqual(self.assert_greatest(whole, 0, 2, 6), 3)
+        for wide in (4, 5, 6):
+            self.assertIs(can_be_made(with_cutter(whole, 0, wide, 2)), True)
+            self.assertIs(is_greatest(whole, 0, 2, 6, (wide, ())), False)
         self.assertEqual(self.assert_greatest(changed(job, 1, less(SLOT[0], box((5, 0, 2), (7, 12, 4)))), 0, 2, 6), 2)
 
     def test_drawn_jobs(self):

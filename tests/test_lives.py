@@ -33,6 +33,16 @@ def own_hold(job, program, lives):
     return True
 
 
+def idle_moves(job, program):
+    """How many moves go nowhere."""
+    at, many = job[3][2], 0
+    for block in program:
+        if len(block) == 3:
+            many += at[block[1]] == block[2]
+            at = with_number(at, *block[1:])
+    return many
+
+
 def with_rates(chance, job):
     return (*job[:4], tuple([changed(tool, 3, chance.randint(0, 4)) for tool in job[4]]), job[5])
 
@@ -81,6 +91,7 @@ class Changes(unittest.TestCase):
         self.assertEqual(judge(job, told)[0], "good")
         self.assertIs(own_hold(job, told, lives), True, (program, lives, told))
         self.assertIs(lives_hold(job, told, lives), True)
+        self.assertEqual(idle_moves(job, told), idle_moves(job, program))
         return told
 
     def test_all_lives_without_an_end(self):

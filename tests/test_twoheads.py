@@ -127,6 +127,8 @@ class Judge(unittest.TestCase):
         held = changed(TWO, 5, (changed(FLAT, 3, box((8, 0, 5), (9, 1, 6))),))
         self.assertTrue(is_job(held))
         self.assert_bad(0, (DO_LEFT, DO_RIGHT), held)
+        self.assert_bad(0, ((*DO_LEFT, *DO_RIGHT_NEAR[1:]), (("tool", "mill"),)), held)
+        self.assert_good(((*DO_LEFT, *DO_RIGHT_NEAR[1:]), ()), held)
         # In a slot that the other head cut in the part ahead, it is.
         slot = less(LONG, box((1, 1, 1), (9, 2, 2)))
         job, inside = changed(TWO, 1, slot), changed(FAR_SIDE, 2, (8, 1, 1))
@@ -231,6 +233,7 @@ class Run(unittest.TestCase):
             self.assertEqual(self.assert_run(((), (("tool", "mill"),)), [], TWO, changed(FAR_SIDE, 2, home))[:2], ("alarm", 1))
         held = changed(TWO, 5, (changed(FLAT, 3, box((8, 0, 5), (9, 1, 6))),))
         self.assertEqual(self.assert_run((DO_LEFT, DO_RIGHT), [], held)[:2], ("alarm", 1))
+        self.assertEqual(self.assert_run((DO_LEFT, (("tool", "mill"),)), [], held)[:2], ("alarm", 1))
 
     def test_what_the_one_cuts_the_other_finds_gone(self):
         right = (*DO_RIGHT[:5], ("rapid", 2, 2), ("rapid", 0, 1), ("rapid", 2, 1), ("rapid", 2, 2), ("rapid", 0, 6), *DO_RIGHT[5:])

@@ -12,15 +12,17 @@ from shopwhole.closure import is_paper, shows_never
 from shopwhole.codereader import read_code
 from shopwhole.codewriter import code_text, relative_text
 from shopwhole.edits import Book, program_again
+from shopwhole.folding import folded_text
 from shopwhole.jobs import is_fine
 from shopwhole.jobtexts import job_text, read_job
 from shopwhole.judge import judge
 from shopwhole.leastrounds import least_program
+from shopwhole.lives import lives_hold, with_changes
 from shopwhole.motor import run_motor
 from shopwhole.plans import program_for
 from shopwhole.solids import is_within, spread
 from shopwhole.stops import most_steps, run_history, steps_in
-from shopwhole.tidy import tidied
+from shopwhole.tidy import do_same, tidied
 
 
 def random_history(chance, most, many):
@@ -91,6 +93,25 @@ class Whole(unittest.TestCase):
             stocks = [judge(job, program)[1] for program in programs]
             self.assertEqual(stocks, [solid_of(own_closure(job)[0])] * 6)
             self.assert_ends(chance, job, programs[chance.randrange(6)])
+
+    def test_all_that_is_made_of_a_program_is_good(self):
+        """Tidied, with tools changed, folded, in any order, it ends as the program does."""
+        chance, more = random.Random(6), 0
+        for job in some_jobs(104, 25):
+            job = changed(job, 2, 9)
+            home, lives = job[3][2], tuple([chance.choice((tool[3], 3 * tool[3], None)) for tool in job[4]])
+            program = longer(chance, job, program_for(job)[1])
+            makers = [lambda told: tidied(job, told), lambda told: with_changes(job, told, lives),
+                      lambda told: read_code(folded_text(told, home), home)]
+            for make in chance.sample(makers, 3):
+                told = make(program)
+                self.assertTrue(do_same(job, program, told))
+                more += len(told) - len(program)
+                program = told
+            told = tidied(job, with_changes(job, program, lives))
+            self.assertTrue(lives_hold(job, told, lives))
+            self.assert_ends(chance, job, told)
+        self.assertGreater(more, 0)
 
     def test_jobs_that_cannot_be_made(self):
         for job in (CAVE, NARROW):
