@@ -32,7 +32,7 @@ class Folder:
         numbers = numbers_of(blocks)
         self.runs = [runs_of(numbers, step) for step in range(1, LONGEST_ROW + 1)]
         self.names = {}
-        self.items = []
+        self.told = []
 
     def saved(self, place, long, turns):
         """How many lines are saved if a row at a place, so long, is called so many turns."""
@@ -60,9 +60,9 @@ class Folder:
             if lines > 0:
                 row = tuple(self.blocks[place:place + long])
                 name = self.names.setdefault(row, f"p{len(self.names)}")
-                self.items.append(("call", name, turns))
+                self.told.append(("call", name, turns))
             else:
-                self.items.append(self.blocks[place])
+                self.told.append(self.blocks[place])
             place += long * turns
 
 
@@ -70,7 +70,7 @@ def folded(program, home):
     """(pieces, items): a list of (name, blocks), and one of blocks and ("call", name, times), both with ways."""
     folder = Folder(as_ways(program, home))
     folder.fold()
-    return [(name, row) for row, name in folder.names.items()], folder.items
+    return [(name, row) for row, name in folder.names.items()], folder.told
 
 
 def unfolded(pieces, items, home):

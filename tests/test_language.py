@@ -24,6 +24,9 @@ builtins compile copyright credits delattr dir eval exec exit gc getattr globals
 locals methodcaller os quit setattr type vars sys""".split())
 BARRED_WORDS = set("""typing enum Enum Flag Generic Protocol ABC namedtuple abstractmethod dataclass overload
 contextmanager""".split())
+BARRED_ATTRIBUTES = set("""items keys values pop update append clear extend insert remove reverse setdefault sort args
+encode decode hex fromhex format format_map""".split())
+VALUE_NAMES = {word for kind in (str, int, list, dict, set, bytes) for word in dir(kind) if not word.startswith("_")}
 STATEMENTS = (ast.Assign, ast.AugAssign, ast.If, ast.While, ast.For, ast.Return, ast.Break, ast.Continue, ast.Pass,
               ast.Raise, ast.Assert, ast.Delete, ast.Try, ast.Expr, ast.FunctionDef, ast.ClassDef, ast.ImportFrom)
 BARRED_NODES = (ast.Yield, ast.YieldFrom, ast.Await, ast.Global, ast.Nonlocal, ast.NamedExpr, ast.With, ast.Match,
@@ -161,6 +164,8 @@ class Language(unittest.TestCase):
                 if isinstance(node, ast.ClassDef):
                     methods.update(part.name for part in node.body if isinstance(part, ast.FunctionDef))
         self.assertFalse(attributes & methods)
+        self.assertFalse(attributes & BARRED_ATTRIBUTES)
+        self.assertFalse((attributes | methods) & VALUE_NAMES - {"count", "index", "add", "discard"})
         for name in package_files():
             tree = tree_of(name)
             known = defined_in(tree) | set(imports_of(tree))
